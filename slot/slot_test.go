@@ -121,6 +121,17 @@ func TestPropose(t *testing.T) {
 	}
 }
 
+// R3: a result is new memory.
+func TestProposeCopies(t *testing.T) {
+	s := some()
+	got, _ := slot.Propose(s, 6, 1, "c")
+	clear(got.Prepares)
+	clear(got.Commits)
+	if !same(s, some()) {
+		t.Error("Propose shares its argument")
+	}
+}
+
 // lists are the two lists of a slot, and what puts a vote there.
 var lists = map[string]struct {
 	cast func(api.Slot, api.Vote) (api.Slot, api.Errno)
