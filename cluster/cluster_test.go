@@ -158,6 +158,20 @@ func TestNew(t *testing.T) {
 	}
 }
 
+// R3: the cluster keeps the store that it was given, whatever happens to the argument.
+func TestNewCopies(t *testing.T) {
+	s, _, _ := store.Take(empty(t), []api.Edit{{Key: "a", Val: api.Value{Kind: 2, I: 7}}})
+	c, _ := cluster.New(4, 1, s, []int{0}, 1, 1)
+	s.T.Leaves[1][0].Val.I = 8
+	m, _, ok := c.Model(1)
+	r, _ := c.Replica(1)
+	for _, x := range []api.Store{m, r.Store()} {
+		if v, _, e := store.Get(x, "a"); v.I != 7 || e != api.OK || !ok {
+			t.Errorf("the cluster has %v, %d", v, e)
+		}
+	}
+}
+
 // P35.2
 func TestRefused(t *testing.T) {
 	c := made(t, 4, 2, 1)

@@ -51,6 +51,17 @@ func TestNew(t *testing.T) {
 	}
 }
 
+// R3: the replica keeps the store that it was given, whatever happens to the argument.
+func TestNewCopies(t *testing.T) {
+	s, _, _ := store.Take(empty(t), []api.Edit{{Key: "a", Val: api.Value{Kind: 2, I: 5}}})
+	r, _ := ring.New(4, nil)
+	p, _ := replica.New(0, 4, s, r, term.New(), 1, 1)
+	s.T.Leaves[1][0].Val.I = 6
+	if v, _, e := store.Get(p.Store(), "a"); v.I != 5 || e != api.OK {
+		t.Errorf("the replica has %v, %d", v, e)
+	}
+}
+
 // P33.2: the way of one request.
 func TestOneRequest(t *testing.T) {
 	w := made(t, 4)

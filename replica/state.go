@@ -101,7 +101,8 @@ func (p *Replica) storeOf(l []int) (api.Store, api.Errno) {
 	if len(l) != 3+api.Buckets {
 		return api.Store{}, api.ErrForm
 	}
-	c := api.Crate{M: api.Manifest{Ver: l[0], Bytes: l[1], Keys: l[2], Leaves: [api.Buckets]int(l[3:])}}
+	c := api.Crate{M: api.Manifest{Ver: l[0], Bytes: l[1], Keys: l[2]}}
+	copy(c.M.Leaves[:], l[3:])
 	for b, n := range c.M.Leaves {
 		ver, chunks, e := root.Chunks(p.table, n)
 		if e != api.OK {
