@@ -385,6 +385,25 @@ func TestSettle(t *testing.T) {
 	}
 }
 
+// P35.2, P29.4: the certificate in a change has the voice of the primary of its view first, then those of the others.
+func TestCertificate(t *testing.T) {
+	c, _ := cluster.New(4, 2, empty(t), nil, 1, 1)
+	plain := func(client int) api.Event { return api.Event{Do: api.EvAsk, P: client} }
+	do(t, c, plain(1), plain(0), arrive(6), tick(2), arrive(1), tick(1), tick(1), tick(2), settle, plain(0), arrive(38), tick(3))
+	voice := func(from, kind int) api.Stmt {
+		return api.Stmt{From: from, Kind: kind, View: 2, Seq: 1, Term: 12}
+	}
+	kept := c.Kept()
+	m := kept[len(kept)-1].M
+	if m.Kind != 6 || m.From != 3 || m.View != 3 || len(m.Changes) != 1 || len(m.Changes[0].Certs) != 1 {
+		t.Fatalf("posted %+v", m)
+	}
+	k := m.Changes[0].Certs[0]
+	if k.Seq != 1 || k.View != 2 || k.Term != 12 || !slices.Equal(k.Voices, []api.Stmt{voice(2, 2), voice(0, 3), voice(3, 3)}) {
+		t.Errorf("the certificate %+v", k)
+	}
+}
+
 // P35.1, P35.2: posts beyond MaxKept are lost.
 func TestMaxKept(t *testing.T) {
 	c, _ := cluster.New(4, 2, empty(t), nil, 1, 1)

@@ -174,6 +174,29 @@ func TestCertificateKept(t *testing.T) {
 	}
 }
 
+// P33.2: the voices of a certificate begin with the primary's, whatever its number.
+func TestCertificateVoices(t *testing.T) {
+	for _, x := range []struct {
+		view, other int
+		order       []int // whose voices follow on one another
+	}{{1, 0, []int{1, 0, 3}}, {1, 2, []int{1, 2, 3}}, {2, 0, []int{2, 0, 3}}, {4, 1, []int{0, 1, 3}}} {
+		w := made(t, 4)
+		a := ask(1, 1)
+		primary := x.view % 4
+		w.takes("a request", 3, w.request(a))
+		w.takes("a new view", 3, w.newView(primary, x.view, w.plain(0, x.view), w.plain(1, x.view), w.plain(2, x.view)))
+		m := w.say(w.proposal(primary, x.view, 1, a))
+		w.takes("a proposal", 3, m)
+		w.takes("a vote", 3, w.vote(prepare, x.other, x.view, 1, m.Term))
+		k := api.Cert{Seq: 1, View: x.view, Term: m.Term, Body: m.Body}
+		for _, p := range x.order {
+			k.Voices = append(k.Voices, api.Stmt{From: p, Kind: prepare, View: x.view, Seq: 1, Term: m.Term})
+		}
+		k.Voices[0].Kind = prePrepare
+		w.posts("a change", w.tick(3, 3)[:1], all(changeMsg(api.Change{From: 3, View: x.view + 1, Certs: []api.Cert{k}})))
+	}
+}
+
 // P33.2: what lies above a stable checkpoint stays.
 func TestAboveStays(t *testing.T) {
 	w := made(t, 4)

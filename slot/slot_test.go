@@ -264,21 +264,33 @@ func TestCommitted(t *testing.T) {
 
 // P29.4
 func TestVoices(t *testing.T) {
-	s := with([]api.Vote{vote(0, 5, 7), vote(1, 5, 7), vote(2, 4, 7), vote(3, 5, 7), vote(4, 5, 7)}, votes(5, 7, 2))
-	want := []api.Stmt{{From: 0, Kind: 3, View: 5, Seq: 11, Term: 7}, {From: 1, Kind: 2, View: 5, Seq: 11, Term: 7}, {From: 3, Kind: 3, View: 5, Seq: 11, Term: 7}}
-	if l := slot.Voices(s, 11, 4); !slices.Equal(l, want) {
-		t.Errorf("Voices = %v", l)
+	voice := func(from, kind, view int) api.Stmt {
+		return api.Stmt{From: from, Kind: kind, View: view, Seq: 11, Term: 7}
 	}
-	first := api.Slot{Has: true, Term: 7, Body: "b", Prepares: votes(0, 7, 1, 2)}
-	if l := slot.Voices(first, 1, 4); !slices.Equal(l, []api.Stmt{{From: 0, Kind: 2, Seq: 1, Term: 7}, {From: 1, Kind: 3, Seq: 1, Term: 7}, {From: 2, Kind: 3, Seq: 1, Term: 7}}) {
-		t.Errorf("Voices = %v", l)
+	all := votes(5, 7, 0, 1, 2, 3, 4, 5, 6, 7, 63)
+	for _, x := range []struct {
+		what string
+		s    api.Slot
+		n    int
+		want []api.Stmt
+	}{
+		{"the primary is first by its number", api.Slot{Has: true, Term: 7, Prepares: votes(0, 7, 1, 2)}, 4, []api.Stmt{voice(0, 2, 0), voice(1, 3, 0), voice(2, 3, 0)}},
+		{"the primary is in the middle", with([]api.Vote{vote(0, 5, 7), vote(2, 4, 7), vote(3, 5, 7)}, votes(5, 7, 2)), 4, []api.Stmt{voice(1, 2, 5), voice(0, 3, 5), voice(3, 3, 5)}},
+		{"the primary is last by its number", api.Slot{Has: true, View: 7, Term: 7, Prepares: votes(7, 7, 0, 1, 2)}, 4, []api.Stmt{voice(3, 2, 7), voice(0, 3, 7), voice(1, 3, 7), voice(2, 3, 7)}},
+		{"the primary and others vote that do not count", with(all, nil), 4, []api.Stmt{voice(1, 2, 5), voice(0, 3, 5), voice(2, 3, 5), voice(3, 3, 5)}},
+		{"of seven", with(all, nil), 7, []api.Stmt{voice(5, 2, 5), voice(0, 3, 5), voice(1, 3, 5), voice(2, 3, 5), voice(3, 3, 5), voice(4, 3, 5), voice(6, 3, 5)}},
+		{"another term", with([]api.Vote{vote(0, 5, 7), vote(2, 5, 8), vote(3, 6, 7)}, nil), 4, nil},
+		{"no proposal", api.Slot{Prepares: votes(0, 0, 1, 2, 3)}, 4, nil},
+	} {
+		if l := slot.Voices(x.s, 11, x.n); !slices.Equal(l, x.want) {
+			t.Errorf("%s: Voices = %v, want %v", x.what, l, x.want)
+		}
 	}
-	first.Prepares[1].Term = 8
-	if l := slot.Voices(first, 1, 4); len(l) != 0 {
-		t.Errorf("Voices of what is not prepared = %v", l)
-	}
-	if l := slot.Voices(s, math.MinInt, 4); len(l) != 3 || l[0].Seq != math.MinInt {
-		t.Errorf("Voices = %v", l)
+	for _, seq := range []int{math.MinInt, -1, 0, math.MaxInt} {
+		l := slot.Voices(with(all, nil), seq, 4)
+		if len(l) != 4 || slices.ContainsFunc(l, func(x api.Stmt) bool { return x.Seq != seq }) {
+			t.Errorf("Voices at %d = %v", seq, l)
+		}
 	}
 }
 
